@@ -1,0 +1,1 @@
+"""A store of built things whose collection goes in steps."""
