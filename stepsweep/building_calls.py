@@ -96,9 +96,8 @@ def has_stray(state, session, rows):
 
 def enter_outs(state, session, sizes, refs):
     outs = session.outs
-    rows = reference_rows(refs, len(outs))
-    for index, out in enumerate(outs):
-        state.things.enter(out, sizes[index], sorted(set(rows[index])))
+    rows = [sorted(set(row)) for row in reference_rows(refs, len(outs))]
+    state.things.enter_all(outs, sizes, rows)
     session.end_building()
     session.hold_all(outs)
     state.shade(outs)

@@ -1,4 +1,4 @@
-"""How far sessions, roots, places, sizes and the room go."""
+"""How far sessions, roots, places, sizes, the room and work go."""
 
 LAST_SESSION = 7
 LAST_ROOT = 31
@@ -6,6 +6,8 @@ LAST_PLACE = 127
 LARGEST_SIZE = 9999
 MOST_REFERENCES = 64
 FIRST_ROOM = 100000
+LARGEST_ROOM = 100000
+MOST_UNITS = 1000
 
 
 def is_session(number):
@@ -26,6 +28,18 @@ def is_size(number):
 
 def is_reference_count(number):
     return 0 <= number <= MOST_REFERENCES
+
+
+def is_room(number):
+    return 0 <= number <= LARGEST_ROOM
+
+
+def is_number_of_units(number):
+    return 0 <= number <= MOST_UNITS
+
+
+def is_number_to_be_won(number):
+    return number >= 0
 
 
 def are_places(numbers):

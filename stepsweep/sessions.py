@@ -12,6 +12,12 @@ class Session:
         for place in places:
             self.held[place] = True
 
+    def anchored(self):
+        return list(self.held) + self.ins
+
+    def anchors_one_of(self, places):
+        return any([place in places for place in self.anchored()])
+
     def start_building(self, outs, ins):
         self.building = True
         self.outs = outs

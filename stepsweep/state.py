@@ -17,5 +17,12 @@ class State:
     def is_valid(self, place):
         return self.things.is_valid(place)
 
+    def anchored_valid(self):
+        anchored = list(self.roots.values())
+        for session in self.sessions.values():
+            anchored.extend(session.anchored())
+        # What was taken away may be held and rooted on.
+        return [place for place in anchored if self.is_valid(place)]
+
     def shade(self, places):
         self.collector.shade(self.things, places)

@@ -1,11 +1,13 @@
 """The interface: the answers to a flat list of calls on a new store."""
 
 from stepsweep.building_calls import abort_building, begin_building, finish_building
+from stepsweep.collection_calls import cancel_collection, start_collection, work_units
 from stepsweep.reader import Reader
-from stepsweep.refusals import DONE
+from stepsweep.room_calls import set_room
 from stepsweep.root_calls import clear_root, set_root
 from stepsweep.session_calls import close_session, hold_place, open_session
 from stepsweep.state import State
+from stepsweep.telling_calls import tell_counts, tell_live, tell_valid, tell_why
 
 
 def answer_open(state, reader):
@@ -50,11 +52,36 @@ def answer_unroot(state, reader):
     return [clear_root(state, reader.number())]
 
 
+def answer_collect(state, reader):
+    return [start_collection(state, reader.number())]
+
+
+def answer_work(state, reader):
+    return work_units(state, reader.number())
+
+
+def answer_cancel(state, reader):
+    return [cancel_collection(state)]
+
+
+def answer_room(state, reader):
+    return [set_room(state, reader.number())]
+
+
+def answer_valid(state, reader):
+    return tell_valid(state)
+
+
+def answer_live(state, reader):
+    return tell_live(state)
+
+
+def answer_why(state, reader):
+    return tell_why(state, reader.number())
+
+
 def answer_counts(state, reader):
-    things = state.things
-    collector = state.collector
-    marks = [collector.phase, len(collector.black), len(collector.grey)]
-    return [DONE, len(things.sizes), things.load()] + marks + [collector.won]
+    return tell_counts(state)
 
 
 CALLS = {
@@ -66,6 +93,13 @@ CALLS = {
     5: answer_abort,
     6: answer_root,
     7: answer_unroot,
+    8: answer_collect,
+    9: answer_work,
+    10: answer_cancel,
+    11: answer_room,
+    12: answer_valid,
+    13: answer_live,
+    14: answer_why,
     15: answer_counts,
 }
 

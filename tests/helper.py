@@ -8,6 +8,9 @@ from stepsweep.state import State
 from stepsweep.store import answer_one, answers
 
 FAR = 10 ** 18
+CANCEL = [10]
+VALID = [12]
+LIVE = [13]
 COUNTS = [15]
 
 
@@ -47,6 +50,35 @@ def unroot(r):
     return [7, r]
 
 
+def collect(n):
+    return [8, n]
+
+
+def work(n):
+    return [9, n]
+
+
+def room(n):
+    return [11, n]
+
+
+def why(p):
+    return [14, p]
+
+
+def stored(things, k=7):
+    """The calls that enter places, told as {place: (size, references)}, and anchor none of them."""
+    places = sorted(things)
+    refs = flat([row(things[place][1]) for place in places])
+    return [opened(k), begin(k, places), finish(k, [things[place][0] for place in places], refs), closed(k)]
+
+
+def chained(places, size=1):
+    """Things of which each mentions the one told behind it."""
+    pairs = zip(places, list(places[1:]) + [None])
+    return {place: (size, [] if behind is None else [behind]) for place, behind in pairs}
+
+
 def flat(calls):
     numbers = []
     for call in calls:
@@ -81,8 +113,9 @@ def seen(state):
     }
     things = {place: (size, list(state.things.references[place])) for place, size in state.things.sizes.items()}
     collector = state.collector
-    marks = (collector.phase, sorted(collector.black), sorted(collector.grey), collector.won)
-    return sessions, things, marks, dict(state.roots), state.room
+    marks = (collector.phase, sorted(collector.black), sorted(collector.grey), collector.to_be_won, collector.won)
+    knots = {place: list(knot) for place, knot in state.things.knots.items()}
+    return sessions, things, knots, dict(state.things.mentions), marks, dict(state.roots), state.room
 
 
 class StoreCase(unittest.TestCase):
@@ -103,8 +136,25 @@ class StoreCase(unittest.TestCase):
     def built(self, k, outs, ins, sizes, refs):
         self.done(begin(k, outs, ins), finish(k, sizes, refs))
 
+    def told(self, call, *answer):
+        self.assertEqual(play(self.state, call), list(answer), call)
+
     def session(self, k):
         return self.state.sessions[k]
 
     def references(self, place):
         return self.state.things.references[place]
+
+
+class AnswersCase(unittest.TestCase):
+    """A test through the interface alone: calls with their answers, behind calls that all answer 0."""
+
+    before = []
+
+    def expect(self, *pairs, before=None):
+        ahead = list(self.before if before is None else before)
+        told = ask(*ahead, *[call for call, answer in pairs])
+        self.assertEqual(told[:len(ahead)], [[DONE]] * len(ahead))
+        self.assertEqual(len(told), len(ahead) + len(pairs))
+        for step, (call, answer) in enumerate(pairs):
+            self.assertEqual(told[len(ahead) + step], answer, f"step {step}: {call}")
